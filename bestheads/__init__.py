@@ -1,0 +1,1 @@
+"""Bestheads: the best few by several lists, from the first lines."""

@@ -1,0 +1,42 @@
+"""Books: one to four lists of the worths of one to twelve things, and the order in which a list is read."""
+
+from bestheads.errors import NoBook, NoList
+from bestheads.fracs import falling_places, is_fraction, is_whole
+
+MOST_LISTS = 4
+MOST_THINGS = 12
+
+
+def is_worth(thing):
+    """Whether anything is a fraction from 0 to 1."""
+    return is_fraction(thing) and 0 <= thing[0] <= thing[1]
+
+
+def are_worths(thing, most):
+    """Whether anything is a list of one to so many worths."""
+    if not isinstance(thing, list) or not 1 <= len(thing) <= most:
+        return False
+    return all([is_worth(part) for part in thing])
+
+
+def is_book(thing):
+    """Whether anything is a book."""
+    if not isinstance(thing, list) or not 1 <= len(thing) <= MOST_LISTS:
+        return False
+    if not all([are_worths(row, MOST_THINGS) for row in thing]):
+        return False
+    return all([len(row) == len(thing[0]) for row in thing])
+
+
+def is_place(thing, many):
+    """Whether anything is a number of one of so many lists or things, which are numbered from 0."""
+    return is_whole(thing) and 0 <= thing < many
+
+
+def read_order(book, place):
+    """All things in the order in which the list of this number is read."""
+    if not is_book(book):
+        raise NoBook("this is no book")
+    if not is_place(place, len(book)):
+        raise NoList("the book has no list of this number")
+    return falling_places(book[place])
