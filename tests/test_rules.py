@@ -30,6 +30,7 @@ def no_rules(many):
     """Things that are no rule for so many lists."""
     things = list(ODD_THINGS)
     things += [list(rule) for rule in rules(many)] + [rule + (None,) for rule in rules(many)]
+    things += [rule + (1, 1) for rule in rules(many)] + [rule * 3 for rule in rules(many)]
     things += [rule[0] for rule in rules(many)] + [(rule,) for rule in rules(many)]
     things += [("shares",), ("middle",), ("least", 1), ("greatest", []), ("product", [HALF] * many), ("Least",)]
     things += [("", 1), ("middle ", 1), ("share", [HALF] * many), ("sum",), (None, 1), (1, 1), (["middle"], 1)]
