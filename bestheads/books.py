@@ -33,10 +33,37 @@ def is_place(thing, many):
     return is_whole(thing) and 0 <= thing < many
 
 
-def read_order(book, place):
-    """All things in the order in which the list of this number is read."""
+def is_count(thing, many):
+    """Whether anything is a count of some, none or all of so many things."""
+    return is_whole(thing) and 0 <= thing <= many
+
+
+def are_rising(parts):
+    """Whether each of these parts is less than the next one."""
+    return all([one < other for one, other in zip(parts, parts[1:])])
+
+
+def are_things(thing, many):
+    """Whether anything is a rising list of unlike ones of so many things."""
+    if not isinstance(thing, list) or not all([is_place(part, many) for part in thing]):
+        return False
+    return are_rising(thing)
+
+
+def need_book(book):
+    """Refuse what is no book."""
     if not is_book(book):
         raise NoBook("this is no book")
+
+
+def read_orders(book):
+    """For each list all things in the order in which it is read."""
+    return [falling_places(row) for row in book]
+
+
+def read_order(book, place):
+    """All things in the order in which the list of this number is read."""
+    need_book(book)
     if not is_place(place, len(book)):
         raise NoList("the book has no list of this number")
     return falling_places(book[place])

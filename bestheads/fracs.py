@@ -63,11 +63,17 @@ def is_fraction(thing):
     return bottom >= 1 and common_divisor(top, bottom) == 1
 
 
+def common_bottom(fractions):
+    """The least whole number that all bottoms divide."""
+    bottom = 1
+    for top, own in fractions:
+        bottom = bottom * own // common_divisor(bottom, own)
+    return bottom
+
+
 def tops_on_one_bottom(fractions):
     """The tops of fractions that are brought to one bottom: whole numbers that compare as the fractions do."""
-    bottom = 1
-    for fraction in fractions:
-        bottom = bottom * fraction[1] // common_divisor(bottom, fraction[1])
+    bottom = common_bottom(fractions)
     return [top * (bottom // own) for top, own in fractions]
 
 

@@ -1,8 +1,8 @@
 """Rules: how a thing's worths in all lists make one worth."""
 
-from bestheads.books import MOST_LISTS, are_worths
+from bestheads.books import MOST_LISTS, are_worths, need_book
 from bestheads.errors import NoRule, NoWorth
-from bestheads.fracs import falling_places, frac_sum, frac_times, is_fraction, is_whole
+from bestheads.fracs import common_bottom, falling_places, frac_sum, frac_times, is_fraction, is_whole
 
 BARE_RULES = (("least",), ("greatest",), ("product",))
 
@@ -67,3 +67,23 @@ def rule_worth(rule, worths):
     if not is_rule(rule, len(worths)):
         raise NoRule("this is no rule for as many lists")
     return worth_by(rule, worths)
+
+
+def need_book_and_rule(book, rule):
+    """Refuse what is no book, then what is no rule for its lists."""
+    need_book(book)
+    if not is_rule(rule, len(book)):
+        raise NoRule("this is no rule for the book's lists")
+
+
+def whole_form(book, rule):
+    """A book and a rule with all worths times one number and all weights times one, so that they are whole,
+    and what becomes of the worth 1."""
+    # Every thing's worth by the rule is multiplied alike then, so that they compare as before; but whole
+    # fractions are reckoned with much sooner, as no divisors are to be looked for.
+    one = (common_bottom([worth for row in book for worth in row]), 1)
+    rows = [[frac_times(worth, one) for worth in row] for row in book]
+    if rule[0] != "shares":
+        return (rows, rule, one)
+    factor = (common_bottom(rule[1]), 1)
+    return (rows, ("shares", [frac_times(weight, factor) for weight in rule[1]]), one)

@@ -1,35 +1,10 @@
 import unittest
-from fractions import Fraction
 from itertools import product
 
-from helper import Case, Numbers, ODD_THINGS
+from helper import Case, HALF, NO_NUMBERS, Numbers, no_books, size, wanted_order
 
 from bestheads.books import is_book, read_order
 from bestheads.errors import NoBook, NoList
-
-HALF = (1, 2)
-NO_WORTHS = ODD_THINGS + [(-1, 2), (-1, 1), (3, 2), (2, 1), (10 ** 12, 10 ** 12 - 1), (2, 4), (0, 2), (1, -2), (1, 0)]
-NO_NUMBERS = [None, True, False, -1, -2, 10 ** 59, "", "0", (), (0,), [], [0], (0, 1), [[0]]]
-
-
-def size(lists, things):
-    return [[HALF] * things for row in range(lists)]
-
-
-def no_books():
-    books = list(ODD_THINGS)
-    books += [size(0, 1), size(5, 1), size(5, 12), size(1, 0), size(4, 0), size(1, 13), size(4, 13)]
-    books += [[[HALF], [HALF, HALF]], [[HALF, HALF], [HALF]], [[HALF] * 3] * 3 + [[HALF] * 4], [[HALF], []]]
-    books += [tuple(size(2, 2)), [tuple(row) for row in size(2, 2)], [[HALF], (HALF,)], [HALF], HALF]
-    for worth in NO_WORTHS:
-        books += [[[worth]], [[HALF, HALF], [HALF, worth]], [[worth, HALF], [HALF, HALF]]]
-    for row in ODD_THINGS:
-        books += [[row], [[HALF], row], [row, [HALF]]]
-    return books
-
-
-def wanted_order(row):
-    return sorted(range(len(row)), key=lambda thing: (-Fraction(*row[thing]), thing))
 
 
 class IsBook(Case):

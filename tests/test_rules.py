@@ -1,47 +1,10 @@
 import unittest
-from fractions import Fraction
 from itertools import product
 
-from helper import Case, Numbers, ODD_THINGS, pair
+from helper import BARE, Case, HALF, NO_WORTHS, Numbers, ODD_THINGS, middles, no_rules, pair, rules, wanted_worth
 
 from bestheads.errors import NoRule, NoWorth
 from bestheads.rules import is_rule, rule_worth
-
-HALF = (1, 2)
-BARE = [("least",), ("greatest",), ("product",)]
-NO_WEIGHTS = ODD_THINGS + [(-1, 2), (-1, 1), (2, 4), (0, 2), (1, 0), (1, -2)]
-NO_WORTHS = NO_WEIGHTS + [(3, 2), (2, 1), (10 ** 12, 10 ** 12 - 1)]
-
-
-def middles(many):
-    return [("middle", place) for place in range(1, many + 1)]
-
-
-def shares(many):
-    weights = [(0, 1), (1, 3), (1, 1), (7, 2), (999999999999, 1), (1, 999999999999)]
-    return [("shares", [weights[(start + at) % len(weights)] for at in range(many)]) for start in range(len(weights))]
-
-
-def rules(many):
-    return BARE + middles(many) + shares(many) + [("shares", [(0, 1)] * many)]
-
-
-def no_rules(many):
-    """Things that are no rule for so many lists."""
-    things = list(ODD_THINGS)
-    things += [list(rule) for rule in rules(many)] + [rule + (None,) for rule in rules(many)]
-    things += [rule + (1, 1) for rule in rules(many)] + [rule * 3 for rule in rules(many)]
-    things += [rule[0] for rule in rules(many)] + [(rule,) for rule in rules(many)]
-    things += [("shares",), ("middle",), ("least", 1), ("greatest", []), ("product", [HALF] * many), ("Least",)]
-    things += [("", 1), ("middle ", 1), ("share", [HALF] * many), ("sum",), (None, 1), (1, 1), (["middle"], 1)]
-    things += [("middle", place) for place in (0, -1, many + 1, many + 2, 10 ** 59)]
-    things += [("middle", place) for place in ODD_THINGS if type(place) is not int]
-    things += [("middle", (1, 1)), ("middle", [1]), ("middle", 1, 1), (1, "middle")]
-    things += [("shares", [HALF] * (many - 1)), ("shares", [HALF] * (many + 1)), ("shares", (HALF,) * many)]
-    things += [("shares", weights) for weights in ODD_THINGS]
-    for weight in NO_WEIGHTS:
-        things += [("shares", [weight] + [HALF] * (many - 1)), ("shares", [HALF] * (many - 1) + [weight])]
-    return things
 
 
 def no_worth_lists():
@@ -49,23 +12,6 @@ def no_worth_lists():
     for worth in NO_WORTHS:
         lists += [[worth], [HALF, worth], [worth, HALF, HALF], [HALF, HALF, HALF, worth]]
     return lists
-
-
-def wanted_worth(rule, worths):
-    """Reckoned by Python's own Fractions."""
-    numbers = [Fraction(*worth) for worth in worths]
-    if rule[0] == "shares":
-        return pair(sum([Fraction(*weight) * number for weight, number in zip(rule[1], numbers)], Fraction(0)))
-    if rule[0] == "least":
-        return pair(min(numbers))
-    if rule[0] == "greatest":
-        return pair(max(numbers))
-    if rule[0] == "middle":
-        return pair(sorted(numbers, reverse=True)[rule[1] - 1])
-    answer = Fraction(1)
-    for number in numbers:
-        answer *= number
-    return pair(answer)
 
 
 class IsRule(Case):
