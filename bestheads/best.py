@@ -6,11 +6,16 @@ from bestheads.fracs import falling_places
 from bestheads.rules import need_book_and_rule, worth_by
 
 
+def need_count(book, count):
+    """Refuse what is no count of the book's things."""
+    if not is_count(count, len(book[0])):
+        raise NoCount("this is no count of the book's things")
+
+
 def need_book_rule_and_count(book, rule, count):
     """Refuse what is no book, then no rule for its lists, then no count of its things."""
     need_book_and_rule(book, rule)
-    if not is_count(count, len(book[0])):
-        raise NoCount("this is no count of the book's things")
+    need_count(book, count)
 
 
 def worths_of(book, thing):

@@ -113,6 +113,10 @@ class Numbers:
     def book(self, lists, things, figures):
         return [[pair(self.worth(figures)) for thing in range(things)] for row in range(lists)]
 
+    def grid(self, lists, things, parts):
+        """A book whose worths are some of so many like parts of 1, so that some are often alike."""
+        return [[pair(Fraction(self.below(parts + 1), parts)) for thing in range(things)] for row in range(lists)]
+
     def looks(self, lists, things):
         """Looks at a book of such a size, at times shallow ones, at times with much asked."""
         most, rare = self.below(things + 1), 1 + self.below(8)

@@ -167,10 +167,6 @@ def agreeing_books(book, looks):
             yield other
 
 
-def quarters(numbers, lists, things):
-    return [[pair(Fraction(numbers.below(5), 4)) for thing in range(things)] for row in range(lists)]
-
-
 class SureFew(Case):
     def test_written_out(self):
         self.told(None, sure_few, BOOK, ("least",), 1, ([0, 0], []))
@@ -240,7 +236,7 @@ class SureFew(Case):
         numbers = Numbers(25)
         for turn in range(150):
             lists, things = 1 + numbers.below(4), 1 + numbers.below(6)
-            book, looks = quarters(numbers, lists, things), numbers.looks(lists, things)
+            book, looks = numbers.grid(lists, things, 4), numbers.looks(lists, things)
             count = numbers.below(things + 1)
             for rule in rules(lists):
                 self.told(wanted_sure(book, rule, count, looks), sure_few, book, rule, count, looks)
@@ -250,7 +246,7 @@ class SureFew(Case):
         told = []
         for turn in range(120):
             lists, things = ((1, 4), (2, 3), (3, 2), (2, 2))[turn % 4]
-            book, looks = quarters(numbers, lists, things), numbers.looks(lists, things)
+            book, looks = numbers.grid(lists, things, 4), numbers.looks(lists, things)
             rule = (rules(lists)[:-1] + [("shares", [(1, 3)] * lists)] * 3)[numbers.below(len(rules(lists)) + 2)]
             count = numbers.below(things + 1)
             sure = [list(few) for few in combinations(range(things), count)]

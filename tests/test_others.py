@@ -3,8 +3,8 @@ from fractions import Fraction
 from itertools import combinations, product
 
 from helper import (
-    Case, HALF, Numbers, agrees, all_asks, is_best_few, no_books, no_looks, no_rules, no_thing_lists, number, pair,
-    rules, size, sure_lists, wanted_bounds,
+    Case, HALF, Numbers, agrees, all_asks, is_best_few, no_books, no_looks, no_rules, no_thing_lists, number, rules,
+    size, sure_lists, wanted_bounds,
 )
 
 from bestheads.best import best_few
@@ -105,7 +105,7 @@ class OtherBook(Case):
         numbers = Numbers(32)
         for turn in range(60):
             lists, things = 1 + numbers.below(3), 1 + numbers.below(4)
-            book = [[pair(Fraction(numbers.below(4), 3)) for thing in range(things)] for row in range(lists)]
+            book = numbers.grid(lists, things, 3)
             looks, rule = numbers.looks(lists, things), numbers.rule(lists, 1)
             for many in range(things + 1):
                 for few in combinations(range(things), many):

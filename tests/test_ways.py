@@ -66,10 +66,6 @@ def wanted_least(book, rule, count):
 WANTED = {by_rounds: wanted_rounds, by_asking: wanted_asking, by_hope: wanted_hope}
 
 
-def thirds(numbers, lists, things):
-    return [[pair(Fraction(numbers.below(4), 3)) for thing in range(things)] for row in range(lists)]
-
-
 class Ways(Case):
     def test_written_out(self):
         self.told((3, [1]), by_rounds, BOOK, SUM, 1)
@@ -118,7 +114,7 @@ class Ways(Case):
         numbers = Numbers(42)
         for turn in range(25):
             lists, things = 1 + numbers.below(4), 1 + numbers.below(6)
-            book, count = thirds(numbers, lists, things), numbers.below(things + 1)
+            book, count = numbers.grid(lists, things, 3), numbers.below(things + 1)
             for rule in rules(lists):
                 for way in WAYS[:3]:
                     self.told(WANTED[way](book, rule, count), way, book, rule, count)
@@ -127,14 +123,14 @@ class Ways(Case):
         numbers = Numbers(43)
         for way in WAYS[:3]:
             for rule in (("shares", [(1, 1)] * 4), ("least",), ("product",)):
-                for book in (numbers.book(4, 12, 1), thirds(numbers, 4, 12)):
+                for book in (numbers.book(4, 12, 1), numbers.grid(4, 12, 3)):
                     self.told(WANTED[way](book, rule, 1), way, book, rule, 1)
 
     def test_the_things_are_those_of_sure_few_and_no_lesser_round_is_enough(self):
         numbers = Numbers(44)
         for turn in range(60):
             lists, things = 1 + numbers.below(4), 1 + numbers.below(12)
-            book, rule, count = thirds(numbers, lists, things), numbers.rule(lists, 1), numbers.below(things + 1)
+            book, rule, count = numbers.grid(lists, things, 3), numbers.rule(lists, 1), numbers.below(things + 1)
             rounds, few = self.ask(by_rounds, book, rule, count)
             self.assertEqual(few, sure_few(book, rule, count, ([rounds] * lists, [])))
             for less in range(rounds):
@@ -236,7 +232,7 @@ class LeastReading(Case):
         numbers = Numbers(46)
         for lists, things in ((1, 1), (1, 8), (2, 2), (2, 5), (3, 3)):
             for turn in range(4):
-                book = numbers.book(lists, things, 12) if turn == 0 else thirds(numbers, lists, things)
+                book = numbers.book(lists, things, 12) if turn == 0 else numbers.grid(lists, things, 3)
                 for rule in rules(lists)[:7] + [numbers.rule(lists, 1)]:
                     for count in sorted({1, things // 2, things - 1}):
                         self.told(wanted_least(book, rule, count), least_reading, book, rule, count)
