@@ -39,3 +39,8 @@ def best_few(book, rule, count):
     need_book_rule_and_count(book, rule, count)
     worths = worths_by(book, rule)
     return [(thing, worths[thing]) for thing in falling_places(worths)[:count]]
+
+
+def best_things(book, rule, count):
+    """The rising list of the things of best_few."""
+    return sorted([thing for thing, worth in best_few(book, rule, count)])

@@ -1,6 +1,6 @@
 """Books: one to four lists of the worths of one to twelve things, and the order in which a list is read."""
 
-from bestheads.errors import NoBook, NoList
+from bestheads.errors import NoBook, NoList, NoThing
 from bestheads.fracs import falling_places, is_fraction, is_whole
 
 MOST_LISTS = 4
@@ -56,6 +56,18 @@ def need_book(book):
         raise NoBook("this is no book")
 
 
+def need_list(book, place):
+    """Refuse what is no number of a list of the book."""
+    if not is_place(place, len(book)):
+        raise NoList("the book has no list of this number")
+
+
+def need_thing(book, thing):
+    """Refuse what is no number of a thing of the book."""
+    if not is_place(thing, len(book[0])):
+        raise NoThing("the book has no thing of this number")
+
+
 def read_orders(book):
     """For each list all things in the order in which it is read."""
     return [falling_places(row) for row in book]
@@ -64,6 +76,5 @@ def read_orders(book):
 def read_order(book, place):
     """All things in the order in which the list of this number is read."""
     need_book(book)
-    if not is_place(place, len(book)):
-        raise NoList("the book has no list of this number")
+    need_list(book, place)
     return falling_places(book[place])

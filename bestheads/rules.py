@@ -87,3 +87,8 @@ def whole_form(book, rule):
         return (rows, rule, one)
     factor = (common_bottom(rule[1]), 1)
     return (rows, ("shares", [frac_times(weight, factor) for weight in rule[1]]), one)
+
+
+def copied_rule(rule):
+    """The same rule, with a fresh list of weights."""
+    return ("shares", list(rule[1])) if rule[0] == "shares" else rule

@@ -1,6 +1,6 @@
 """Two lists: at which weights the best few change."""
 
-from bestheads.best import best_few, need_count
+from bestheads.best import best_things, need_count
 from bestheads.books import need_book
 from bestheads.errors import TooMany
 from bestheads.fracs import falling_places, frac_below, frac_by, frac_less, frac_sum, frac_times
@@ -31,12 +31,6 @@ def meeting_weights(book):
     return [weights[place] for place in falling_places(weights)][::-1]
 
 
-def things_at(book, weight, count):
-    """The rising list of the things of the best few by shares, at this weight of the first list."""
-    rule = ("shares", [weight, frac_less(END, weight)])
-    return sorted([thing for thing, worth in best_few(book, rule, count)])
-
-
 def weight_stretches(book, count):
     """The stretches of weights of the first list, from 0 to 1, with the things that are best within each."""
     need_book(book)
@@ -46,7 +40,8 @@ def weight_stretches(book, count):
     edges = [START] + meeting_weights(book) + [END]
     stretches = []
     for start, end in zip(edges, edges[1:]):
-        things = things_at(book, frac_times(HALF, frac_sum(start, end)), count)
+        weight = frac_times(HALF, frac_sum(start, end))
+        things = best_things(book, ("shares", [weight, frac_less(END, weight)]), count)
         if stretches and stretches[-1][2] == things:
             # Things that are best on both sides are best where these meet, too.
             start = stretches.pop()[0]

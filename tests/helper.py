@@ -263,6 +263,12 @@ def wanted_worths(book, rule):
     return [wanted_worth(rule, worths) for worths in zip(*book)]
 
 
+def wanted_few(book, rule, count):
+    worths = wanted_worths(book, rule)
+    order = sorted(range(len(worths)), key=lambda thing: (-number(worths[thing]), thing))
+    return [(thing, worths[thing]) for thing in order[:count]]
+
+
 def is_best_few(book, rule, things):
     """By the words of the document: no other thing is worth more than one of them."""
     worths = [number(worth) for worth in wanted_worths(book, rule)]
@@ -291,6 +297,12 @@ def wanted_seen(book, looks):
         read = wanted_order(row)[:depths[place]]
         seen.append([row[thing] if thing in read or (place, thing) in asked else None for thing in range(len(row))])
     return seen
+
+
+def count_looks(book, looks):
+    """How many lines are read, and how many worths are asked that aren't read."""
+    orders = [wanted_order(row) for row in book]
+    return (sum(looks[0]), len([1 for row, thing in looks[1] if orders[row].index(thing) >= looks[0][row]]))
 
 
 def wanted_bounds(book, rule, looks):

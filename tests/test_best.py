@@ -2,19 +2,13 @@ import unittest
 from itertools import product
 
 from helper import (
-    Case, HALF, Numbers, is_best_few, no_books, no_counts, no_rules, number, rules, size, wanted_worths,
+    Case, HALF, Numbers, is_best_few, no_books, no_counts, no_rules, rules, size, wanted_few, wanted_worths,
 )
 
 from bestheads.best import best_few, thing_worths
 from bestheads.errors import NoBook, NoCount, NoRule
 
 BOOK = [[(1, 3), (1, 2), (1, 1), (1, 2)], [(1, 2), (1, 4), (0, 1), (1, 4)]]
-
-
-def wanted_few(book, rule, count):
-    worths = wanted_worths(book, rule)
-    order = sorted(range(len(worths)), key=lambda thing: (-number(worths[thing]), thing))
-    return [(thing, worths[thing]) for thing in order[:count]]
 
 
 class ThingWorths(Case):

@@ -26,6 +26,12 @@ NO_NODES = (
     ast.With, ast.Global, ast.Nonlocal, ast.Yield, ast.YieldFrom, ast.Await, ast.AsyncFunctionDef, ast.AsyncFor,
     ast.AsyncWith, ast.GeneratorExp, ast.NamedExpr, ast.Div, ast.Import, ast.Match, ast.MatMult,
 )
+# Those of Python's own values that the rules list.
+OWN_METHODS = set(
+    "append clear copy count endswith extend find get index insert isalnum isalpha isdigit islower isspace isupper "
+    "items join keys ljust lower lstrip partition pop remove replace reverse rfind rjust rpartition rsplit rstrip "
+    "setdefault split splitlines startswith strip update upper values zfill bit_length isascii add discard".split()
+)
 TWO_UNDERSCORES = {"__init__", "__eq__", "__repr__", "__str__", "__len__"}
 
 
@@ -108,8 +114,23 @@ class Language(unittest.TestCase):
             for name in bound_names(tree):
                 if name not in TWO_UNDERSCORES:
                     self.assertRegex(name, r"^[A-Za-z][A-Za-z0-9_]*$", path)
-                self.assertFalse(hasattr(builtins, name), (path, name))
+                    self.assertFalse(hasattr(builtins, name), (path, name))
                 self.assertNotIn(name, NO_NAMES, path)
+
+    def test_methods_and_values_of_objects(self):
+        methods, given, asked = set(), set(), set()
+        for path, tree in trees():
+            for node in ast.walk(tree):
+                if isinstance(node, ast.ClassDef):
+                    rows = [row for row in node.body if isinstance(row, ast.FunctionDef)]
+                    methods |= {row.name for row in rows}
+                    inner = [part for row in rows for part in ast.walk(row) if isinstance(part, ast.Attribute)]
+                    given |= {part.attr for part in inner if isinstance(part.ctx, ast.Store)}
+                if isinstance(node, ast.Attribute):
+                    asked.add(node.attr)
+        self.assertEqual(set(), methods & given)
+        self.assertEqual(set(), (methods | given) & OWN_METHODS)
+        self.assertEqual(set(), asked - methods - given - OWN_METHODS)
 
     def test_of_pythons_own_names_only_the_listed_ones_are_used(self):
         for path, tree in trees():

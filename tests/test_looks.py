@@ -3,8 +3,8 @@ from fractions import Fraction
 from itertools import combinations, product
 
 from helper import (
-    Case, HALF, Numbers, agrees, all_asks, is_best_few, no_books, no_counts, no_looks, no_rules, number, pair, rules,
-    size, sure_lists, wanted_bounds, wanted_order, wanted_seen, wanted_sure, wanted_worths,
+    Case, HALF, Numbers, agrees, all_asks, count_looks, is_best_few, no_books, no_counts, no_looks, no_rules, number,
+    pair, rules, size, sure_lists, wanted_bounds, wanted_order, wanted_seen, wanted_sure, wanted_worths,
 )
 
 from bestheads.errors import NoBook, NoCount, NoLooks, NoRule
@@ -76,9 +76,7 @@ class CountOf(Case):
         for lists, things in SIZES:
             book = numbers.book(lists, things, 1)
             for looks in edge_looks(lists, things) + [numbers.looks(lists, things) for turn in range(6)]:
-                orders = [wanted_order(row) for row in book]
-                unread = [1 for row, thing in looks[1] if orders[row].index(thing) >= looks[0][row]]
-                self.told((sum(looks[0]), len(unread)), count_of, book, looks)
+                self.told(count_looks(book, looks), count_of, book, looks)
 
     def test_refusals(self):
         for thing in no_books():
@@ -106,7 +104,8 @@ class WorthBounds(Case):
     def test_all_lines_read_or_asked(self):
         for rule in rules(2):
             wanted = [(worth, worth) for worth in wanted_worths(BOOK, rule)]
-            for looks in (([4, 4], []), ([0, 0], all_asks(2, 4)), ([4, 4], all_asks(2, 4)), ([4, 0], all_asks(2, 4)[4:])):
+            asks = all_asks(2, 4)
+            for looks in (([4, 4], []), ([0, 0], asks), ([4, 4], asks), ([4, 0], asks[4:])):
                 self.told(wanted, worth_bounds, BOOK, rule, looks)
 
     def test_a_last_read_line_of_nought_or_one(self):
@@ -149,7 +148,7 @@ class WorthBounds(Case):
 
 
 def open_worths(book, looks, row, thing):
-    """Some worths that a thing may have in a list by the looks: the seen one, else 0, nearly the last read, the last."""
+    """Some worths that a thing may have by the looks: the seen one, else 0, nearly the last read one, and this."""
     order = wanted_order(book[row])
     depth = looks[0][row]
     if thing in order[:depth] or (row, thing) in looks[1]:

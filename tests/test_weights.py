@@ -2,7 +2,7 @@ import unittest
 from fractions import Fraction
 from itertools import combinations, product
 
-from helper import Case, HALF, Numbers, no_books, no_counts, number, pair, size, wanted_worths
+from helper import Case, HALF, Numbers, no_books, no_counts, number, pair, size, wanted_few
 
 from bestheads.best import best_few
 from bestheads.errors import NoBook, NoCount, TooMany
@@ -14,9 +14,7 @@ ALL = (1, 1)
 
 def things_at(book, weight, count):
     """The things of the best few at a weight, reckoned by Python's own Fractions."""
-    worths = wanted_worths(book, ("shares", [pair(weight), pair(1 - weight)]))
-    order = sorted(range(len(worths)), key=lambda thing: (-number(worths[thing]), thing))
-    return sorted(order[:count])
+    return sorted(thing for thing, worth in wanted_few(book, ("shares", [pair(weight), pair(1 - weight)]), count))
 
 
 def meetings(book):
