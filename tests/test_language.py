@@ -117,6 +117,14 @@ class Language(unittest.TestCase):
                     self.assertFalse(hasattr(builtins, name), (path, name))
                 self.assertNotIn(name, NO_NAMES, path)
 
+    def test_no_local_is_called_like_a_class_or_an_import(self):
+        for path, tree in trees():
+            taken = top_names(ast.Module([row for row in tree.body if isinstance(row, (ast.ImportFrom, ast.ClassDef))], []))
+            for node in ast.walk(tree):
+                if isinstance(node, (ast.FunctionDef, ast.Lambda)):
+                    inner = [part for part in ast.walk(node) if part is not node]
+                    self.assertFalse(set(taken) & set(bound_names(ast.Module(inner, []))), path)
+
     def test_methods_and_values_of_objects(self):
         methods, given, asked = set(), set(), set()
         for path, tree in trees():
