@@ -119,7 +119,8 @@ class Language(unittest.TestCase):
 
     def test_no_local_is_called_like_a_class_or_an_import(self):
         for path, tree in trees():
-            taken = top_names(ast.Module([row for row in tree.body if isinstance(row, (ast.ImportFrom, ast.ClassDef))], []))
+            rows = [row for row in tree.body if isinstance(row, (ast.ImportFrom, ast.ClassDef))]
+            taken = top_names(ast.Module(rows, []))
             for node in ast.walk(tree):
                 if isinstance(node, (ast.FunctionDef, ast.Lambda)):
                     inner = [part for part in ast.walk(node) if part is not node]

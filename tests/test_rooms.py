@@ -41,6 +41,7 @@ class FewRoom(Case):
         for worth in (low - HAIR, high + HAIR):
             if 0 <= worth <= 1:
                 self.assertFalse(is_best_few(with_worth(book, place, thing, pair(worth)), rule, things), (given, told))
+        self.assertEqual(ALL if thing in things else NONE, told[thing in things], (given, told))
         self.told(told, few_room, *given)
         return told
 
@@ -56,8 +57,8 @@ class FewRoom(Case):
         self.told((NONE, ALL), few_room, book, SUM, 2, 1, 1)
         self.told((NONE, (3, 4)), few_room, book, SUM, 2, 0, 2)
 
-    def test_both_edges_of_it_move(self):
-        # Of the few there is a least worth, of the others a greatest one; with one thing of each they meet.
+    def test_a_room_of_one_of_the_few_ends_at_1_and_of_another_thing_begins_at_0(self):
+        # By no rule a thing is worth less for a greater worth, so no room has both edges in between.
         book = [[HALF, THIRD]]
         for rule in rules(1)[:3] + [("shares", [(7, 2)])]:
             self.told((THIRD, ALL), few_room, book, rule, 1, 0, 0)
